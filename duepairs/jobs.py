@@ -140,6 +140,11 @@ def with_free(job, t, f):
     check_task(job, t)
     if not is_hour(f):
         raise NoHour("the free is not a whole number from 1 on")
+    return free_from(job, t, f)
+
+
+def free_from(job, t, f):
+    """What with_free tells, of a job, a task of it, and an hour."""
     frees, dues, needs, rooms = job
     new_frees = list(frees)
     new_frees[t] = max(frees[t], f)
@@ -152,6 +157,11 @@ def with_due(job, t, d):
     check_task(job, t)
     if not is_whole_from(0, d):
         raise NoHour("the due is not a whole number from 0 on")
+    return due_by(job, t, d)
+
+
+def due_by(job, t, d):
+    """What with_due tells, of a job, a task of it, and a whole number from 0 on."""
     frees, dues, needs, rooms = job
     new_dues = list(dues)
     if dues[t] is None or d < dues[t]:

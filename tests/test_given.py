@@ -6,16 +6,26 @@ import itertools
 import time
 import unittest
 
-from common import BIG, JOB, NO_JOBS, lists_within
-from duepairs import errors, jobs, plans
+from common import BIG, JOB, NEITHER, NO_JOBS, SEARCHED, broad_jobs, busy_jobs, lists_within
+from duepairs import errors, jobs, lines, plans, settling, trees
 
 INTERFACE = {
     jobs: {"is_job": ["thing"], "is_narrow": ["job"], "is_behind": ["job", "a", "b"],
            "room": ["job", "s", "e"], "with_free": ["job", "t", "f"], "with_due": ["job", "t", "d"]},
     plans: {"is_plan": ["job", "thing"], "fault": ["job", "hours"], "listed": ["job", "order"]},
+    lines: {"are_right": ["job", "lines"], "judge": ["job", "lines"]},
+    trees: {"is_tree": ["job", "thing"]},
+    settling: {"settle": ["job"], "closed": ["job"], "lines_for": ["job", "statement"]},
 }
 
 WIDE = ([1, 1, 2, 1], [None, 3, 0, 4], [(0, 1), (3, 2)], [3, 0, 1])
+
+THREE = ([1, 1, 1], [1, 1, 1], [], [])
+DERIVATION = [
+    (("due", 0, 1), ("given",)), (("free", 0, 1), ("given",)), (("due", 1, 1), ("given",)),
+    (("free", 1, 1), ("given",)), (("due", 2, 1), ("given",)), (("free", 2, 1), ("given",)),
+    (("none",), ("full", 0, 1, ((0, 1), (2, 3), (4, 5)))),
+]
 
 # Calls that return something: a function and its arguments.
 ANSWERED = [
@@ -24,6 +34,16 @@ ANSWERED = [
     (jobs.with_due, JOB, 1, 9), (plans.is_plan, JOB, [1, 2, 3]), (plans.is_plan, JOB, [[1], 2]),
     (plans.fault, JOB, [1, 2, 2]), (plans.fault, JOB, [1, 2, 3]), (plans.listed, JOB, [2, 1, 0]),
     (plans.listed, WIDE, [3, 2, 1, 0]), (jobs.with_free, WIDE, 3, 3), (jobs.with_due, WIDE, 1, 1),
+    (lines.are_right, THREE, DERIVATION), (lines.are_right, THREE, [[[1], 2], "x"]),
+    (lines.judge, THREE, DERIVATION), (lines.judge, JOB, [[]]), (lines.are_right, JOB, []),
+    (trees.is_tree, THREE, DERIVATION), (trees.is_tree, THREE, (0, 3, DERIVATION, [[1]])),
+    (trees.is_tree, JOB, [DERIVATION, [2]]), (settling.settle, JOB), (settling.settle, WIDE),
+    (settling.settle, THREE), (settling.settle, NEITHER[0]), (settling.settle, NEITHER[-1]),
+    (settling.settle, SEARCHED[0]), (settling.settle, ([], [], [], [])), (settling.closed, JOB),
+    (settling.closed, THREE), (settling.closed, NEITHER[3]), (settling.closed, ([], [], [], [])),
+    (settling.lines_for, JOB, ("due", 0, 2)), (settling.lines_for, JOB, ("free", 2, 1)),
+    (settling.lines_for, JOB, ("none",)), (settling.lines_for, THREE, ("due", 1, -3)),
+    (settling.lines_for, THREE, ("none",)),
     (jobs.with_free, ([], [], [], []), 0, 1),
 ]
 
@@ -33,7 +53,12 @@ RAISED = [
     ((jobs.room, JOB, 0, [3]), "NoHour"), ((jobs.with_free, JOB, 3, 1), "NoTask"),
     ((jobs.with_free, JOB, 1, [2]), "NoHour"), ((jobs.with_due, JOB, 1, [-1]), "NoHour"),
     ((plans.is_plan, [JOB], [1]), "NoJob"), ((plans.fault, JOB, [1, [2], 3]), "NoHours"),
-    ((plans.listed, JOB, [2, 1, 1]), "NoOrder"),
+    ((plans.listed, JOB, [2, 1, 1]), "NoOrder"), ((lines.are_right, [JOB], DERIVATION), "NoJob"),
+    ((lines.judge, None, [[1]]), "NoJob"), ((trees.is_tree, list(JOB), DERIVATION), "NoJob"),
+    ((settling.settle, ([1], [[1]], [], [])), "NoJob"), ((settling.closed, [[], [], [], []]), "NoJob"),
+    ((settling.lines_for, ([], [], [[1]], []), ("none",)), "NoJob"),
+    ((settling.lines_for, JOB, ["none"]), "NoStatement"),
+    ((settling.lines_for, JOB, ("free", [0], 1)), "NoStatement"),
 ]
 REFUSED = [call for call, _ in RAISED]
 
@@ -155,12 +180,18 @@ class Errors(unittest.TestCase):
             for call in [(jobs.is_behind, thing, None, None), (jobs.room, thing, None, None),
                          (jobs.with_free, thing, None, None), (jobs.with_due, thing, None, None),
                          (plans.is_plan, thing, None), (plans.fault, thing, None),
-                         (plans.listed, thing, None), (jobs.is_narrow, thing)]:
+                         (plans.listed, thing, None), (jobs.is_narrow, thing),
+                         (lines.are_right, thing, None), (lines.judge, thing, None),
+                         (trees.is_tree, thing, None), (settling.settle, thing),
+                         (settling.closed, thing), (settling.lines_for, thing, None)]:
                 self.assertEqual(called(call), "NoJob")
 
     def test_no_task_is_raised_before_no_hour(self):
         self.assertEqual(called((jobs.with_free, JOB, 3, 0)), "NoTask")
         self.assertEqual(called((jobs.with_due, JOB, 3, -1)), "NoTask")
+    def test_no_job_is_raised_before_no_statement(self):
+        self.assertEqual(called((settling.lines_for, list(JOB), ("free", 9, 1))), "NoJob")
+        self.assertEqual(called((settling.lines_for, JOB, ("free", 9, 1))), "NoStatement")
 
 
 class Promptness(unittest.TestCase):
@@ -201,6 +232,77 @@ class Promptness(unittest.TestCase):
         job = ([1] * 60, [None] * 60, needs, [])
         self.assertIs(self.prompt(jobs.is_behind, job, 0, 59), True)
         self.assertIs(self.prompt(jobs.is_behind, job, 59, 0), False)
+
+    def settled(self, job):
+        """Asks all of a job that stage 3 can be asked."""
+        word, thing = self.prompt(settling.settle, job)
+        self.prompt(settling.closed, job)
+        self.prompt(settling.lines_for, job, ("none",))
+        for t in range(len(job[0])):
+            self.prompt(settling.lines_for, job, ("due", t, 40))
+            self.prompt(settling.lines_for, job, ("free", t, 2))
+        if word == "none":
+            self.assertIs(self.prompt(trees.is_tree, job, thing), True)
+            self.prompt(lines.judge, job, thing)
+        return word
+
+    def test_settling_jobs_of_the_greatest_size(self):
+        needs = [(a, b) for b in range(12) for a in range(b)]
+        for many, top in [(12, 2), (9, 3)]:
+            for some in [[], needs[:30], needs]:
+                some = [(a, b) for a, b in some if b < many]
+                for due in [None, 1, 5, 12, 20, 26, 40]:
+                    for rooms in [[], [0] * 20, [0, 0, 0, top] * 5, [0] * 16 + [top] * 4, [top] * 20, [1, 0, 0, 0] * 5]:
+                        self.settled(([1] * many, [due] * many, some, rooms))
+                        self.settled(([40] * many, [due] * many, some, rooms))
+
+    def test_settling_jobs_of_all_kinds(self):
+        told = [self.settled(job) for job in broad_jobs(30, 5, 2) + broad_jobs(30, 7, 3) + busy_jobs(30, 11, 9, 12, 2)
+                + busy_jobs(30, 13, 8, 9) + NEITHER + SEARCHED]
+        self.assertEqual(sorted(set(told)), ["none", "plan"])
+
+    def test_jobs_with_neither_late_and_far_apart(self):
+        # Many hours without room are put in front of, and between, those of the job.
+        for frees, dues, needs, rooms in NEITHER[:9]:
+            for gap in range(20 // len(rooms)):
+                sparse = [places for room in rooms for places in [0] * gap + [room]]
+                late = [None if due is None else min(due, len(rooms)) * (gap + 1) for due in dues]
+                begun = [(free - 1) * (gap + 1) + 1 for free in frees]
+                self.assertEqual(self.settled((begun, late, needs, sparse)), "none")
+
+    def test_hours_of_100(self):
+        # with_free and with_due can be given such hours.
+        for many, rooms in [(12, [2, 0]), (9, [3, 0])]:
+            needs = [(a, b) for b in range(many) for a in range(b)][:30]
+            job = ([1] * many, [None] * many, needs, rooms)
+            for t in range(many):
+                job = jobs.with_due(job, t, 100)
+            self.settled(job)
+            for t in range(many):
+                job = jobs.with_free(job, t, 96)
+            self.settled(job)
+
+    def test_lines_of_50000_parts(self):
+        begun = DERIVATION[:6]
+        self.assertIs(self.prompt(lines.are_right, THREE, begun * 1200), True)
+        self.assertIs(self.prompt(lines.judge, THREE, begun * 1200), False)
+        for parts in [((0, 1),) * 16000, ((0, 1), (2, 3), (4, 5)) * 5000]:
+            self.assertIs(self.prompt(lines.judge, THREE, begun + [(("none",), ("full", 0, 1, parts))]), False)
+        weak = begun + [(("free", 0, -at), ("weaker", at + 5 if at else 1)) for at in range(6000)]
+        self.assertIs(self.prompt(lines.are_right, THREE, weak), True)
+        self.assertIs(self.prompt(lines.judge, THREE, begun + DERIVATION[6:] * 2500), True)
+
+    def test_trees_of_50000_parts(self):
+        job = ([1] * 4, [1, 1, 1, None], [], [])
+        broad = DERIVATION
+        for h in range(9):
+            broad = (3, h, broad, broad)
+        self.assertIs(self.prompt(trees.is_tree, job, broad), True)
+        self.assertIs(self.prompt(trees.is_tree, job, (3, 7, broad, broad[:3])), False)
+        far = DERIVATION
+        for h in range(1500):
+            far = (3, h, far, DERIVATION) if h % 2 else (3, h, DERIVATION, far)
+        self.assertIs(self.prompt(trees.is_tree, job, far), True)
 
 
 if __name__ == "__main__":
