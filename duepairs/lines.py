@@ -99,11 +99,9 @@ def is_later(job, statement, told):
 
 def is_weaker(statement, told):
     """Whether the statement says no more than the told one, or that there is no plan."""
-    if told is None or statement == NO_PLAN:
-        return told == NO_PLAN
     if told == NO_PLAN:
         return True
-    if statement[:2] != told[:2]:
+    if told is None or statement[:2] != told[:2]:
         return False
     return told[2] >= statement[2] if told[0] == "free" else told[2] <= statement[2]
 

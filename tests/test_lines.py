@@ -290,8 +290,13 @@ class Sooner(LinesCase):
         self.last(self.job, late, (("due", 0, 2), ("sooner", 4, ((0, None), (1, 2)))), True)
 
     def test_the_task_itself_does_not_count(self):
-        own = self.start + [(("due", 2, 3), ("sooner", 4, ((1, 2),)))]
-        self.check(self.job, own, False)
+        # Hour 5 has no room, so one task would be enough, if it were another one.
+        job = ([5, 5], [5, 5], [], [0] * 5)
+        lines = [given("due", 0, 5), given("free", 0, 5), given("due", 1, 5), given("free", 1, 5)]
+        for s in range(6):
+            self.last(job, lines, (("due", 0, s), ("sooner", 5, ((0, 1),))), False)
+            self.last(job, lines, (("due", 0, s), ("sooner", 5, ((2, 3),))), s <= 3)
+            self.last(job, lines, (("due", 0, s), ("sooner", 5, ((2, 3), (0, 1)))), False)
         # Task 3 is no task behind 0, and 0 is none behind itself.
         self.mixed(4, 4, ((3, None),), False)
         self.mixed(9, 9, ((5, None),), False)
