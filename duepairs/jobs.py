@@ -1,6 +1,6 @@
 """Jobs: tuples (frees, dues, needs, rooms)."""
 
-from duepairs.errors import NoHour, NoJob, NoTask
+from duepairs.errors import NoHour, NoJob, NoTask, NotNarrow
 from duepairs.whole import is_due, is_hour, is_whole, is_whole_from
 
 MOST_ROOM = 3
@@ -80,6 +80,12 @@ def check_job(job):
     """Raises NoJob if the argument is not a job."""
     if not is_job(job):
         raise NoJob("the argument is not a job")
+
+
+def check_narrow(job):
+    """Raises NoJob if the argument is not a job, then NotNarrow if it is not narrow."""
+    if not is_narrow(job):
+        raise NotNarrow("the job has an hour with room for three")
 
 
 def check_task(job, t):

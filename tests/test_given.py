@@ -7,7 +7,7 @@ import time
 import unittest
 
 from common import BIG, JOB, NEITHER, NO_JOBS, SEARCHED, broad_jobs, busy_jobs, lists_within
-from duepairs import errors, jobs, lines, plans, settling, trees
+from duepairs import board, bounds, errors, jobs, lines, listing, plans, settling, texts, trees
 
 INTERFACE = {
     jobs: {"is_job": ["thing"], "is_narrow": ["job"], "is_behind": ["job", "a", "b"],
@@ -16,6 +16,12 @@ INTERFACE = {
     lines: {"are_right": ["job", "lines"], "judge": ["job", "lines"]},
     trees: {"is_tree": ["job", "thing"]},
     settling: {"settle": ["job"], "closed": ["job"], "lines_for": ["job", "statement"]},
+    bounds: {"earliest": ["job", "t"], "latest": ["job", "t"], "always_ahead": ["job", "a", "b"],
+             "needed_delay": ["job"], "fewest_hours": ["job"]},
+    listing: {"all_plans": ["job", "last"], "all_inside": ["one", "other"]},
+    board: {"Board": ["rooms"]},
+    texts: {"job_text": ["job"], "read_job": ["text"], "lines_text": ["lines"], "read_lines": ["text"],
+            "chart": ["hours"]},
 }
 
 WIDE = ([1, 1, 2, 1], [None, 3, 0, 4], [(0, 1), (3, 2)], [3, 0, 1])
@@ -26,6 +32,40 @@ DERIVATION = [
     (("free", 1, 1), ("given",)), (("due", 2, 1), ("given",)), (("free", 2, 1), ("given",)),
     (("none",), ("full", 0, 1, ((0, 1), (2, 3), (4, 5)))),
 ]
+
+# A job of which the task 2 is always ahead of the task 0, though they have hours in common.
+AHEAD = ([3, 3, 1], [None, 5, 5], [], [0, 1, 1, 0, 1])
+
+
+def plans_told(job, last):
+    return list(listing.all_plans(job, last))
+
+
+def board_told(job):
+    told = board.Board.of(job)
+    return (told.job(), told.rooms, told.settle(), told.back())
+
+
+def boards_told(rooms, deeds, others):
+    told = board.Board(rooms)
+    told.do(deeds)
+    told.set_rooms(others)
+    told.rooms = others
+    both = told & told
+    told &= both
+    return (told.job(), both.job(), told.rooms, both.rooms)
+
+
+def need_refused(job, a, b):
+    try:
+        board.Board.of(job).need(a, b)
+    except errors.BadNeed as error:
+        return error.ring
+
+
+def board_joined(one, other):
+    return (board.Board.of(one) & board.Board.of(other)).job()
+
 
 # Calls that return something: a function and its arguments.
 ANSWERED = [
@@ -43,7 +83,17 @@ ANSWERED = [
     (settling.closed, THREE), (settling.closed, NEITHER[3]), (settling.closed, ([], [], [], [])),
     (settling.lines_for, JOB, ("due", 0, 2)), (settling.lines_for, JOB, ("free", 2, 1)),
     (settling.lines_for, JOB, ("none",)), (settling.lines_for, THREE, ("due", 1, -3)),
-    (settling.lines_for, THREE, ("none",)),
+    (settling.lines_for, THREE, ("none",)), (bounds.earliest, JOB, 1), (bounds.latest, JOB, 0),
+    (bounds.latest, ([1], [None], [], []), 0), (bounds.always_ahead, JOB, 0, 1), (bounds.always_ahead, JOB, 1, 0),
+    (bounds.always_ahead, AHEAD, 2, 0), (bounds.needed_delay, JOB), (bounds.needed_delay, THREE),
+    (bounds.needed_delay, ([], [], [], [])), (bounds.fewest_hours, JOB), (bounds.fewest_hours, ([], [], [], [])),
+    (listing.all_inside, JOB, JOB), (listing.all_inside, AHEAD, JOB), (listing.all_inside, JOB, AHEAD),
+    (texts.job_text, JOB), (texts.read_job, "task 1\ntask 2 3\nneed 1 0\nrooms 1"), (texts.read_job, ""),
+    (texts.lines_text, DERIVATION), (texts.read_lines, "0: none full 0 1 (0,1) (2,)"), (texts.read_lines, ""),
+    (texts.chart, [3, 1]), (plans_told, JOB, 4), (plans_told, ([], [], [], []), 4), (board_told, JOB),
+    (board_told, WIDE), (boards_told, [1, 2], [("add", 1, 2), ("rooms", [3]), ("add", 2, None), ("need", 1, 0)], (1,)),
+    (boards_told, (3,), [("add", 1, 2), ("drop",)], [1, 2]), (need_refused, JOB, 1, 0), (board_joined, JOB, AHEAD),
+    (board_joined, JOB, JOB),
     (jobs.with_free, ([], [], [], []), 0, 1),
 ]
 
@@ -59,6 +109,16 @@ RAISED = [
     ((settling.lines_for, ([], [], [[1]], []), ("none",)), "NoJob"),
     ((settling.lines_for, JOB, ["none"]), "NoStatement"),
     ((settling.lines_for, JOB, ("free", [0], 1)), "NoStatement"),
+    ((bounds.earliest, WIDE, 0), "NotNarrow"), ((bounds.latest, JOB, [0]), "NoTask"),
+    ((bounds.always_ahead, THREE, 0, 1), "NoPlan"), ((bounds.needed_delay, [JOB]), "NoJob"),
+    ((bounds.fewest_hours, THREE), "NoPlan"), ((plans_told, JOB, [1]), "NoHour"), ((plans_told, WIDE, 1), "NotNarrow"),
+    ((listing.all_inside, JOB, WIDE), "Unlike"), ((listing.all_inside, WIDE, WIDE), "NotNarrow"),
+    ((board.Board, [[1]]), "NoRooms"), ((board.Board.of, [JOB]), "NoJob"), ((boards_told, (), [1], [1]), "BadDeed"),
+    ((boards_told, (), ([1],), [1]), "NoDeeds"), ((boards_told, (), [], [[2]]), "NoRooms"),
+    ((board_joined, JOB, WIDE), "Unlike"),
+    ((board_joined, ([1, 1], [1, 1], [(0, 1)], []), ([1, 1], [1, 1], [(1, 0)], [])), "BadNeed"),
+    ((texts.job_text, [JOB]), "NoJob"), ((texts.read_job, "\n"), "NoText"), ((texts.read_lines, "\n"), "NoText"),
+    ((texts.chart, [[1]]), "NoHours"),
 ]
 REFUSED = [call for call, _ in RAISED]
 
@@ -80,7 +140,8 @@ class Interface(unittest.TestCase):
 
     def test_arguments_by_name_in_any_order(self):
         for function, *arguments in ANSWERED[:-1]:
-            names = INTERFACE[inspect.getmodule(function)][function.__name__]
+            names = INTERFACE.get(inspect.getmodule(function), {}).get(function.__name__)
+            names = names or list(inspect.signature(function).parameters)
             told = function(**dict(reversed(list(zip(names, arguments)))))
             self.assertEqual(told, function(*arguments))
 
@@ -173,7 +234,8 @@ class Errors(unittest.TestCase):
                 call[0](*call[1:])
             kinds = [kind.__name__ for kind in classes if isinstance(caught.exception, kind)]
             self.assertEqual(sorted(kinds), sorted(["JobError", name]))
-            self.assertEqual(vars(caught.exception), {})
+            told = {"BadNeed": ["ring"], "BadDeed": ["place", "kind"], "NoText": ["line"]}
+            self.assertEqual(list(vars(caught.exception)), told.get(name, []))
 
     def test_no_job_is_raised_before_any_other(self):
         for thing in NO_JOBS:
@@ -183,7 +245,12 @@ class Errors(unittest.TestCase):
                          (plans.listed, thing, None), (jobs.is_narrow, thing),
                          (lines.are_right, thing, None), (lines.judge, thing, None),
                          (trees.is_tree, thing, None), (settling.settle, thing),
-                         (settling.closed, thing), (settling.lines_for, thing, None)]:
+                         (settling.closed, thing), (settling.lines_for, thing, None),
+                         (bounds.earliest, thing, None), (bounds.latest, thing, None),
+                         (bounds.always_ahead, thing, None, None), (bounds.needed_delay, thing),
+                         (bounds.fewest_hours, thing), (plans_told, thing, None), (listing.all_inside, thing, thing),
+                         (listing.all_inside, thing, WIDE), (listing.all_inside, WIDE, thing), (board_told, thing),
+                         (texts.job_text, thing)]:
                 self.assertEqual(called(call), "NoJob")
 
     def test_no_task_is_raised_before_no_hour(self):
@@ -281,6 +348,42 @@ class Promptness(unittest.TestCase):
             for t in range(many):
                 job = jobs.with_free(job, t, 96)
             self.settled(job)
+
+    def bounded(self, job):
+        """Asks all of a narrow job that stages 4 to 7 can be asked."""
+        delay = self.prompt(bounds.needed_delay, job)
+        if delay[0] == 0:
+            self.prompt(bounds.fewest_hours, job)
+            for t in range(len(job[0])):
+                self.prompt(bounds.earliest, job, t)
+                self.prompt(bounds.latest, job, t)
+                self.prompt(bounds.always_ahead, job, t, 0)
+                self.prompt(bounds.always_ahead, job, 0, t)
+        self.assertEqual(self.prompt(texts.read_job, self.prompt(texts.job_text, job)), job)
+        self.assertEqual(self.prompt(board_told, job)[0], job)
+        self.prompt(board_joined, job, job)
+        return delay[0] == 0
+
+    def test_bounds_of_jobs_of_the_greatest_size(self):
+        needs = [(a, b) for b in range(12) for a in range(b)]
+        for some in [[], needs[:30], needs]:
+            for due in [None, 12, 40]:
+                for rooms in [[], [0] * 16 + [2] * 4, [1, 0, 0, 0] * 5]:
+                    self.bounded(([1] * 12, [due] * 12, some, rooms))
+                    self.bounded(([40] * 12, [due] * 12, some, rooms))
+
+    def test_bounds_of_jobs_of_all_kinds(self):
+        told = [self.bounded(job) for job in broad_jobs(30, 17, 2) + busy_jobs(30, 19, 9, 12, 2)]
+        self.assertEqual(sorted(set(told)), [False, True])
+
+    def test_boards_of_all_needs(self):
+        needs = [(a, b) for b in range(12) for a in range(b)]
+        one = ([1] * 12, [40] * 12, needs[:30], [2] * 20)
+        other = ([1] * 12, [40] * 12, needs[25:], [0, 2] * 10)
+        self.assertEqual(self.prompt(board_joined, one, other)[2], needs)
+        back = ([1] * 12, [40] * 12, [(11, 0)], [])
+        self.assertEqual(self.prompt(board_joined, (one[0], one[1], needs, []), back), "BadNeed")
+        self.prompt(need_refused, (one[0], one[1], needs, []), 11, 0)
 
     def test_lines_of_50000_parts(self):
         begun = DERIVATION[:6]

@@ -1,6 +1,7 @@
 """Some of the rules of LANGUAGE.md that can be read off the package's files at once."""
 
 import ast
+import builtins
 import pathlib
 import unittest
 
@@ -9,6 +10,13 @@ LIBRARY = {"heapq", "math", "itertools", "collections"}
 NOT_USED = {"register", "mro", "elements", "open", "input", "law", "version_info", "type", "eval",
             "exec", "globals", "locals", "vars", "dir", "id", "help", "compile", "hash", "filter",
             "float", "complex", "object", "round", "print", "chr"}
+BUILTINS = set("""len range enumerate zip min max sum abs sorted reversed int str bool list tuple dict set isinstance
+    ord repr any all divmod ValueError TypeError classmethod property super""".split())
+# Doctest puts a "_" among them.
+PYTHONS_OWN = {name for name in dir(builtins) if name != "_"}
+METHODS = set("""append clear copy count endswith extend find get index insert isalnum isalpha isdigit islower isspace
+    isupper items join keys ljust lower lstrip partition pop remove replace reverse rfind rjust rpartition rsplit rstrip
+    setdefault split splitlines startswith strip update upper values zfill isascii isdecimal""".split())
 STATEMENTS_NOT_USED = (ast.Global, ast.AsyncFunctionDef, ast.AsyncFor, ast.AsyncWith, ast.Await)
 
 
@@ -63,11 +71,34 @@ class Source(unittest.TestCase):
             if isinstance(node, ast.Constant):
                 self.assertNotIsInstance(node.value, (float, complex), path)
 
+    def test_builtins_and_methods(self):
+        own = {node.name for _, node in self.nodes() if isinstance(node, ast.FunctionDef)} | {"setter", "__init__"}
+        for path, node in self.nodes():
+            if isinstance(node, ast.Name) and node.id in PYTHONS_OWN:
+                self.assertIn(node.id, BUILTINS, path)
+            if isinstance(node, ast.Call) and isinstance(node.func, ast.Attribute):
+                self.assertIn(node.func.attr, METHODS | own, path)
+
+    def test_no_name_has_two_meanings(self):
+        for path, text in sources():
+            tree = ast.parse(text)
+            named = [alias.name for part in tree.body if isinstance(part, ast.ImportFrom) for alias in part.names]
+            named += [part.name for part in tree.body if hasattr(part, "name")]
+            named += [part.targets[0].id for part in tree.body if isinstance(part, ast.Assign)]
+            self.assertEqual(len(named), len(set(named)), path)
+            kept = [node.id for node in ast.walk(tree) if isinstance(node, ast.Name) and isinstance(node.ctx, ast.Store)
+                    and node.col_offset > 0] + [node.arg for node in ast.walk(tree) if isinstance(node, ast.arg)]
+            self.assertEqual([name for name in kept if name in named or name in PYTHONS_OWN], [], path)
+
     def test_what_a_class_with_operators_bars(self):
         for path, node in self.nodes():
             self.assertNotIsInstance(node, ast.GeneratorExp, path)
             if isinstance(node, ast.Call) and isinstance(node.func, ast.Attribute):
-                self.assertNotEqual(node.func.attr, "sort", path)
+                self.assertNotIn(node.func.attr, ("sort", "discard"), path)
+            if isinstance(node, ast.AugAssign):
+                self.assertIsInstance(node.op, ast.Add, path)
+                self.assertIsInstance(node.target, ast.Name, path)
+                self.assertEqual(ast.dump(node.value), ast.dump(ast.Constant(1)), path)
             if isinstance(node, ast.Compare):
                 for sign, side in zip(node.ops, node.comparators):
                     if isinstance(sign, (ast.Is, ast.IsNot)):
