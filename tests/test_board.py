@@ -403,8 +403,8 @@ class Told(BoardCase):
         self.assertIs(Board() == Board(()), True)
         frees, dues, needs, rooms = JOB
         for other in [([1, 1, 1], dues, needs, rooms), (frees, [None, 3, None], needs, rooms), EMPTY,
-                      (frees, dues, needs[::-1], rooms), (frees, dues, needs[:1], rooms), (frees, dues, needs, [2, 1, 2]),
-                      (frees, dues, needs, [])]:
+                      (frees, dues, needs[::-1], rooms), (frees, dues, needs[:1], rooms),
+                      (frees, dues, needs, [2, 1, 2]), (frees, dues, needs, [])]:
             self.assertIs(board == of(other), False)
             self.assertIs(of(other) == board, False)
             self.assertIs(board != of(other), True)

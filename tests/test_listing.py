@@ -155,6 +155,19 @@ class Lists(Case):
         self.assertEqual(list(plans), [[2, 2]])
         self.assertEqual(told_plans(job, 20), [])
 
+    def test_what_is_changed_between_two_plans_has_no_effect(self):
+        given = ([1, 1, 1], [None, 4, None], [(0, 1)], [1, 2, 1])
+        wanted = told_plans(given, 4)
+        for step in range(len(wanted)):
+            job = tuple([list(part) for part in given])
+            plans = all_plans(job, 4)
+            begun = list(itertools.islice(plans, step + 1))
+            job[0][:] = [2, 3, 3]
+            job[1][:] = [2, 2, None]
+            job[2].append((2, 1))
+            job[3][:] = [2, 2, 0, 0, 1]
+            self.assertEqual(begun + list(plans), wanted)
+
     def test_a_job_that_becomes_none(self):
         job = ([1], [None], [], [])
         plans = all_plans(job, 2)

@@ -25,7 +25,8 @@ LINES_TEXT = ("0: free 2 >= 2 given\n1: due 2 <= 4 given\n2: free 3 >= 4 later 0
 # Lines that are not right, but can be written.
 WRONG_LINES = [
     (("none",), ("given",)), (("none",), ("later", BIG)), (("none",), ("weaker", 0)), (("none",), ("sooner", -1, ())),
-    (("none",), ("full", -BIG, -2, ())), (("free", 0, -BIG), ("full", 0, 0, ((7, None),))), (("due", BIG, 0), ("given",)),
+    (("none",), ("full", -BIG, -2, ())), (("free", 0, -BIG), ("full", 0, 0, ((7, None),))),
+    (("due", BIG, 0), ("given",)),
     (("due", 10, -1), ("later", 10)), (("free", 0, 0), ("sooner", 0, ((0, 0), (0, 0), (10, 20), (0, None)))),
 ]
 
@@ -91,7 +92,8 @@ class Jobs(TextCase):
                 (" task 1", 1), ("task 1 ", 1), ("task  1", 1), ("task -1", 1), ("task 1 -1", 1), ("task +1", 1),
                 ("task 1 None", 1), ("Task 1", 1), ("task1", 1), ("task 1.0", 1), ("task 1_0", 1), ("tasks 1", 1),
                 ("job", 1), ("0", 1), ("task 1\nneed 0 1", 2), ("task 1\nneed 0 0", 2), ("need 0 1", 1),
-                ("need 0 1\ntask 1\ntask 1", 1), ("task 1\nneed 0 1\ntask 1", 2), ("task 1\ntask 1\nneed 0 2\ntask 1", 3),
+                ("need 0 1\ntask 1\ntask 1", 1), ("task 1\nneed 0 1\ntask 1", 2),
+                ("task 1\ntask 1\nneed 0 2\ntask 1", 3),
                 ("task 1\ntask 1\nneed 0 1\ntask 1", 4), ("task 1\ntask 1\nneed 0 1\nneed 0 1", 4),
                 ("task 1\ntask 1\nneed 0 1\nneed 1 0", 4), ("task 1\ntask 1\nneed 0", 3), ("task 1\ntask 1\nneed", 3),
                 ("task 1\ntask 1\nneed 0 1 0", 3), ("task 1\ntask 1\nneed 00 1", 3), ("task 1\ntask 1\nneed -0 1", 3),
@@ -198,7 +200,8 @@ class Lines(TextCase):
                 ("0: none sooner 1 (0,1) ", 1), ("0: none sooner 1 ,", 1), ("0: none sooner 1 (,1)", 1),
                 ("0: none full", 1), ("0: none full 1", 1), ("0: none full 1 (0,1)", 1), ("0: none full 1 (0,1) 2", 1),
                 ("0: none full 1 2 3", 1), ("0: none full 1 -0", 1), ("0: none full 1 2 (0,1) 3", 1),
-                ("0: none none", 1), ("0: none free", 1), ("x", 1), ("~" * 2000, 1), ("\n" * 2000, 1), ("0:" * 1000, 1)]:
+                ("0: none none", 1), ("0: none free", 1), ("x", 1), ("~" * 2000, 1), ("\n" * 2000, 1),
+                ("0:" * 1000, 1)]:
             self.bad(read_lines, text, line)
             self.assertEqual(first_bad_row(text), line, text)
 
